@@ -8,13 +8,17 @@ import (
 	"cartel/cart"
 	"cartel/commands"
 	"cartel/history"
+	"cartel/outbox"
+	"cartel/wire"
 )
 
 // Replica is one of those that keep the cart.
 type Replica struct {
-	lock sync.Mutex // held by each call while it is at work
-	me   int
-	log  history.Log
+	lock     sync.Mutex // held by each call while it is at work
+	me       int
+	replicas int
+	log      history.Log
+	box      outbox.Box
 }
 
 // New makes a replica (P3).
@@ -22,7 +26,7 @@ func New(me int, replicas int) (*Replica, api.Errno) {
 	if replicas < api.MinReplicas || replicas > api.MaxReplicas || me < 0 || me >= replicas {
 		return nil, api.ErrArg
 	}
-	return &Replica{me: me}, api.OK
+	return &Replica{me: me, replicas: replicas}, api.OK
 }
 
 // Do carries out a command (P4, P5).
@@ -36,10 +40,15 @@ func (r *Replica) Do(command string) api.Errno {
 	if !r.hasWhatGoes(c) {
 		return api.ErrUnknown
 	}
-	if r.open() >= api.MaxOpen {
+	if r.box.Open() >= api.MaxOpen {
 		return api.ErrFull
 	}
-	r.log.Do(r.me, c)
+	e := r.log.Do(r.me, c)
+	for to := range r.replicas {
+		if to != r.me {
+			r.box.Put(to, e)
+		}
+	}
 	return api.OK
 }
 
@@ -52,11 +61,6 @@ func (r *Replica) hasWhatGoes(c commands.Command) bool {
 		return cart.Of(r.log.All()).HasCoupon(c.Word)
 	}
 	return true
-}
-
-// open is how many of the commands done here some other replica may not know yet. As no frame tells of the others, that is all of them.
-func (r *Replica) open() int {
-	return r.log.Reach().Of[r.me]
 }
 
 // Known tells the commands that the replica knows (P6).
@@ -74,10 +78,46 @@ func (r *Replica) View() string {
 }
 
 // Tick lets time go by (P8).
-func (r *Replica) Tick() {}
+func (r *Replica) Tick() {
+	r.lock.Lock()
+	defer r.lock.Unlock()
+	r.box.Tick()
+}
 
 // Frames tells what is to be sent (P8).
-func (r *Replica) Frames() []api.Frame { return nil }
+func (r *Replica) Frames() []api.Frame {
+	r.lock.Lock()
+	defer r.lock.Unlock()
+	var frames []api.Frame
+	for _, mail := range r.box.Take() {
+		letter := wire.Letter{From: r.me, To: mail.To, Heard: r.log.Reach().Of[mail.To], Entries: mail.Entries}
+		for _, data := range wire.Write(letter) {
+			frames = append(frames, api.Frame{To: mail.To, Data: data})
+		}
+	}
+	return frames
+}
 
 // Receive takes a frame (P8).
-func (r *Replica) Receive(from int, data []byte) {}
+func (r *Replica) Receive(from int, data []byte) {
+	r.lock.Lock()
+	defer r.lock.Unlock()
+	letter, ok := wire.Read(data)
+	if !ok || !r.isMine(letter, from) {
+		return
+	}
+	r.box.Known(from, letter.Heard)
+	for _, e := range letter.Entries {
+		r.log.Learn(e)
+	}
+	// An answer to an answer would never end.
+	if len(letter.Entries) > 0 {
+		r.box.Owe(from)
+	}
+}
+
+// isMine is false for a letter that no other replica can have written to this one: it would be between others, or tell of commands that were never done here.
+func (r *Replica) isMine(letter wire.Letter, from int) bool {
+	return letter.From == from && from != r.me && from < r.replicas &&
+		letter.To == r.me && letter.Heard <= r.log.Reach().Of[r.me]
+}

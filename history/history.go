@@ -19,6 +19,16 @@ func (r Reach) Has(origin, seq int) bool {
 	return seq <= r.Of[origin]
 }
 
+// Covers tells whether all that is in the other reach is in this one too.
+func (r Reach) Covers(other Reach) bool {
+	for origin, n := range other.Of {
+		if !r.Has(origin, n) {
+			return false
+		}
+	}
+	return true
+}
+
 // Join is the reach of what is in one of the two or in both.
 func (r Reach) Join(other Reach) Reach {
 	for origin, n := range other.Of {
@@ -41,10 +51,22 @@ type Log struct {
 }
 
 // Do puts the next command of the replica origin, done where this log is kept, at the end.
-func (l *Log) Do(origin int, c commands.Command) {
-	ahead := l.reach
-	l.reach.Of[origin]++
-	l.entries = append(l.entries, Entry{Origin: origin, Seq: l.reach.Of[origin], Ahead: ahead, Command: c})
+func (l *Log) Do(origin int, c commands.Command) Entry {
+	e := Entry{Origin: origin, Seq: l.reach.Of[origin] + 1, Ahead: l.reach, Command: c}
+	l.put(e)
+	return e
+}
+
+// Learn puts a command that was done elsewhere at the end, if it is the next one of its replica and all that is ahead of it is in the log. Any other is left out: it is there already, or it comes again when there is room for it in the order.
+func (l *Log) Learn(e Entry) {
+	if e.Seq == l.reach.Of[e.Origin]+1 && l.reach.Covers(e.Ahead) {
+		l.put(e)
+	}
+}
+
+func (l *Log) put(e Entry) {
+	l.entries = append(l.entries, e)
+	l.reach.Of[e.Origin] = e.Seq
 }
 
 // All goes through the log without giving it out of hand.

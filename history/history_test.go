@@ -36,6 +36,45 @@ func TestReachJoin(t *testing.T) {
 	}
 }
 
+func TestReachCovers(t *testing.T) {
+	r := reach(0, 2, 0, 0, 1)
+	for _, c := range []struct {
+		other Reach
+		want  bool
+	}{{reach(), true}, {r, true}, {reach(0, 1, 0, 0, 1), true}, {reach(1), false}, {reach(0, 3), false}, {reach(0, 2, 0, 0, 2), false}, {reach(0, 0, 0, 1), false}} {
+		if got := r.Covers(c.other); got != c.want {
+			t.Errorf("%v covers %v: %v", r, c.other, got)
+		}
+	}
+}
+
+func TestLearn(t *testing.T) {
+	var l Log
+	a := commands.Command{Kind: commands.Note, Word: "a"}
+	first, second, third := Entry{0, 1, reach(), a}, Entry{0, 2, reach(1), a}, Entry{0, 3, reach(2, 1), a}
+	other := Entry{1, 1, reach(2), a}
+	learn := func(want []Entry, entries ...Entry) {
+		t.Helper()
+		for _, e := range entries {
+			l.Learn(e)
+		}
+		if got := slices.Collect(l.All()); !slices.Equal(got, want) {
+			t.Errorf("the log is %v, want %v", got, want)
+		}
+	}
+	learn(nil, second, third, other)
+	learn([]Entry{first}, first, first, third, other)
+	learn([]Entry{first, second}, second, first, third, second)
+	own := l.Do(2, a)
+	if own != (Entry{2, 1, reach(2), a}) {
+		t.Errorf("Do = %v", own)
+	}
+	learn([]Entry{first, second, own, other, third}, third, other, third, other)
+	if l.Reach() != reach(3, 1, 1) {
+		t.Errorf("Reach = %v", l.Reach())
+	}
+}
+
 func TestLog(t *testing.T) {
 	var l Log
 	if len(l.Ops()) != 0 || len(slices.Collect(l.All())) != 0 || l.Reach() != reach() {
