@@ -98,7 +98,7 @@ func (r *Replica) Frames() []api.Frame {
 	return frames
 }
 
-// Receive takes a frame (P8).
+// Receive takes a frame (P8, P9).
 func (r *Replica) Receive(from int, data []byte) {
 	r.lock.Lock()
 	defer r.lock.Unlock()

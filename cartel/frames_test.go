@@ -2,7 +2,9 @@ package cartel_test
 
 import (
 	"bytes"
+	"encoding/binary"
 	"fmt"
+	"hash/crc32"
 	"math"
 	"math/rand"
 	"reflect"
@@ -223,7 +225,7 @@ func TestLongestWay(t *testing.T) {
 
 // P8
 
-// TestDrawn: frames are lost, doubled, overtaken and late, while commands are done.
+// TestDrawn: frames are lost, doubled, overtaken, spoilt and late, while commands are done.
 func TestDrawn(t *testing.T) {
 	for seed := range int64(150) {
 		n := 2 + int(seed)%4
@@ -266,9 +268,10 @@ func (w *net) step(i, loss int) {
 		}
 	case 6, 7:
 		w.tryToDo(i)
-	default:
+	default: // is lost, or comes spoilt
 		if len(w.air) > 0 {
 			k := w.rand.Intn(len(w.air))
+			w.receiveSpoilt(w.air[k])
 			w.air = slices.Delete(w.air, k, k+1)
 		}
 	}
@@ -446,7 +449,7 @@ func TestManyLongCommands(t *testing.T) {
 
 // P1
 
-// TestAnyBytes: bytes that are nearly frames, and bytes that are not, from all sides.
+// TestAnyBytes: bytes that are nearly frames, and bytes that are not, from all sides; some have the length and the sum that belong to them, though no replica wrote them.
 func TestAnyBytes(t *testing.T) {
 	for seed := range int64(40) {
 		n := 2 + int(seed)%4
@@ -457,7 +460,13 @@ func TestAnyBytes(t *testing.T) {
 		}
 		for range 500 {
 			f := w.air[w.rand.Intn(len(w.air))]
+			if again := resealed(f.data); !bytes.Equal(again, f.data) {
+				t.Fatalf("the frame %v should end as %v", f.data, again)
+			}
 			f.data = bent(w.rand, f.data)
+			if w.rand.Intn(2) == 0 {
+				f.data = resealed(f.data)
+			}
 			r := w.replicas[f.to]
 			r.Receive(f.from, f.data)
 			r.Receive(w.rand.Intn(n), f.data)
@@ -468,6 +477,16 @@ func TestAnyBytes(t *testing.T) {
 			r.Known()
 		}
 	}
+}
+
+// resealed is the data, its first byte and its last four such as a frame of this length has them.
+func resealed(data []byte) []byte {
+	b := bytes.Clone(data)
+	if len(b) < 5 {
+		return b
+	}
+	b[0] = byte(len(b))
+	return binary.LittleEndian.AppendUint32(b[:len(b)-4], crc32.ChecksumIEEE(b[:len(b)-4]))
 }
 
 // bent is the data with some bytes changed, cut off or added.
@@ -604,16 +623,7 @@ func TestNetOfGoroutines(t *testing.T) {
 	}
 	wait.Wait()
 	w := &net{t: t, replicas: replicas}
-	for range 60 {
-		for i, r := range replicas {
-			r.Tick()
-			w.send(i)
-		}
-		for _, f := range w.air {
-			w.receive(f)
-		}
-		w.air = nil
-	}
+	w.carry(60)
 	for _, r := range replicas {
 		if len(r.Known()) != len(replicas[0].Known()) || r.View() != replicas[0].View() {
 			t.Errorf("%v and %v", r.Known(), replicas[0].Known())

@@ -171,7 +171,17 @@ func (w *net) lose(chosen func(flight) bool) {
 	w.air = slices.DeleteFunc(w.air, chosen)
 }
 
-// turn is a round in which what is chosen gets lost; the rest comes in an order that is drawn, some of it more than once. What was in the air stays there.
+// spoil lets what is chosen come, some of it, but spoilt. It stays in the air.
+func (w *net) spoil(chosen func(flight) bool) {
+	w.t.Helper()
+	for _, f := range w.air {
+		if chosen(f) && w.rand.Intn(2) == 0 {
+			w.receiveSpoilt(f)
+		}
+	}
+}
+
+// turn is a round in which what is chosen gets lost, or comes spoilt; the rest comes in an order that is drawn, some of it more than once. What was in the air stays there.
 func (w *net) turn(chosen func(flight) bool) {
 	w.t.Helper()
 	late := w.air
@@ -182,6 +192,7 @@ func (w *net) turn(chosen func(flight) bool) {
 	for i := range w.replicas {
 		w.send(i)
 	}
+	w.spoil(chosen)
 	w.lose(chosen)
 	for _, f := range slices.Clone(w.air) {
 		if w.rand.Intn(4) == 0 {

@@ -24,16 +24,16 @@ const (
 // Write lays a letter into frames. Each has the head of the letter, because any of them may get lost.
 func Write(l Letter) [][]byte {
 	var frames [][]byte
-	frame := head(l)
+	body := head(l)
 	for _, e := range l.Entries {
 		piece := appendEntry(nil, e)
-		if len(frame)+len(piece) > api.MaxFrame {
-			frames = append(frames, frame)
-			frame = head(l)
+		if len(body)+len(piece) > room {
+			frames = append(frames, seal(body))
+			body = head(l)
 		}
-		frame = append(frame, piece...)
+		body = append(body, piece...)
 	}
-	return append(frames, frame)
+	return append(frames, seal(body))
 }
 
 func head(l Letter) []byte {
@@ -57,12 +57,13 @@ func appendNumber(b []byte, n int) []byte {
 	return append(b, byte(n))
 }
 
-// Read answers false for bytes that are no frame. It keeps nothing of them.
+// Read answers false for bytes that are no frame, or one that was spoilt. It keeps nothing of them.
 func Read(frame []byte) (Letter, bool) {
-	if len(frame) > api.MaxFrame {
+	body, ok := unseal(frame)
+	if !ok {
 		return Letter{}, false
 	}
-	r := reader{rest: frame}
+	r := reader{rest: body}
 	l := r.head()
 	for len(r.rest) > 0 && !r.bad {
 		l.Entries = append(l.Entries, r.entry(l.From))
@@ -73,7 +74,7 @@ func Read(frame []byte) (Letter, bool) {
 	return l, true
 }
 
-// reader goes through a frame. Once it is bad it stays so, and what it reads means nothing.
+// reader goes through the body of a frame. Once it is bad it stays so, and what it reads means nothing.
 type reader struct {
 	rest []byte
 	bad  bool

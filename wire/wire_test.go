@@ -92,9 +92,9 @@ func drawText(r *rand.Rand) string {
 
 // TestFullFrame: what makes MaxFrame bytes is one frame, what makes one more is two.
 func TestFullFrame(t *testing.T) {
-	// Three bytes of head, 21 for each of the first eight, and 29 for the last.
+	// Five bytes of seal, three of head, 21 for each of the first eight, and 24 for the last.
 	l := Letter{From: 0, To: 1, Entries: slices.Repeat([]history.Entry{entry(t, 0, "remove abcdefgh")}, 8)}
-	l.Entries = append(l.Entries, entry(t, 0, "remove abcdefgh", 0, 1<<14, 1<<14, 1<<14, 1<<14))
+	l.Entries = append(l.Entries, entry(t, 0, "remove abcdefgh", 0, 1<<14, 1<<7))
 	frames := Write(l)
 	if len(frames) != 1 || len(frames[0]) != api.MaxFrame {
 		t.Errorf("%d frames, the first of %d bytes", len(frames), len(frames[0]))
@@ -102,19 +102,14 @@ func TestFullFrame(t *testing.T) {
 	wantLetter(t, readAll(t, frames), l)
 	l.Heard = 128
 	frames = Write(l)
-	if len(frames) != 2 || len(frames[0]) != 4+8*21 || len(frames[1]) != 4+29 {
+	if len(frames) != 2 || len(frames[0]) != 5+4+8*21 || len(frames[1]) != 5+4+24 {
 		t.Errorf("%d frames, the first of %d bytes", len(frames), len(frames[0]))
 	}
 	wantLetter(t, readAll(t, frames), l)
 }
 
+// TestWhatIsNoFrame: bodies that are not spoilt, but no letters.
 func TestWhatIsNoFrame(t *testing.T) {
-	good := Write(Letter{From: 1, To: 0, Heard: 300, Entries: []history.Entry{entry(t, 1, "add tea 2", 0, 200)}})[0]
-	for n := range len(good) {
-		if _, ok := Read(good[:n]); ok && n != 4 { // behind the head it is a letter without entries
-			t.Errorf("%v cut off to %d is read", good, n)
-		}
-	}
 	text := "\x00\x00\x00\x00\x00"
 	for _, bad := range []string{
 		"", "\x00", "\x00\x01", "\x05\x01\x00", "\x00\x05\x00", "\xff\x01\x00", "\x00\x01\x80", "\x00\x01\x80\x80\x80\x80\x80\x80\x80\x80\x00",
@@ -129,11 +124,11 @@ func TestWhatIsNoFrame(t *testing.T) {
 		"\x00\x01\x00" + strings.Repeat(text+"\x0fnote a", 16),
 		"\x00\x01\x00" + strings.Repeat(text+"\x06note a", 17),
 	} {
-		if l, ok := Read([]byte(bad)); ok || l.Entries != nil {
+		if l, ok := Read(seal([]byte(bad))); ok || l.Entries != nil {
 			t.Errorf("Read(%q) = %v, %v", bad, l, ok)
 		}
 	}
-	if _, ok := Read([]byte("\x00\x01\x00" + strings.Repeat(text+"\x06note a", 16))); !ok {
+	if _, ok := Read(seal([]byte("\x00\x01\x00" + strings.Repeat(text+"\x06note a", 16)))); !ok {
 		t.Errorf("sixteen short notes are no frame")
 	}
 }
@@ -150,14 +145,27 @@ func TestBytesAreNotKept(t *testing.T) {
 	wantLetter(t, got, l)
 }
 
-func FuzzRead(f *testing.F) {
-	f.Add([]byte{})
-	f.Add(Write(Letter{From: 1, To: 0, Heard: 300, Entries: []history.Entry{entry(f, 1, "add tea 2", 0, 200)}})[0])
-	f.Fuzz(func(t *testing.T, data []byte) {
-		l, ok := Read(data)
-		if !ok {
-			return
+// TestCutBodies: a body that ends early is a letter only where an entry could begin.
+func TestCutBodies(t *testing.T) {
+	body, _ := unseal(Write(Letter{From: 1, To: 0, Heard: 300, Entries: []history.Entry{entry(t, 1, "add tea 2", 0, 200)}})[0])
+	for n := range len(body) {
+		if _, ok := Read(seal(body[:n])); ok != (n == 4) {
+			t.Errorf("the body %v cut off to %d: %v", body, n, ok)
 		}
-		wantLetter(t, readAll(t, Write(l)), l)
+	}
+}
+
+func FuzzRead(f *testing.F) {
+	frame := Write(Letter{From: 1, To: 0, Heard: 300, Entries: []history.Entry{entry(f, 1, "add tea 2", 0, 200)}})[0]
+	body, _ := unseal(frame)
+	f.Add([]byte{})
+	f.Add(frame)
+	f.Add(body)
+	f.Fuzz(func(t *testing.T, data []byte) {
+		for _, frame := range [][]byte{data, seal(data)} {
+			if l, ok := Read(frame); ok {
+				wantLetter(t, readAll(t, Write(l)), l)
+			}
+		}
 	})
 }
